@@ -3,6 +3,7 @@ package chains
 
 import (
 	"iter"
+	"strings"
 
 	"moot/api"
 	"moot/set"
@@ -14,6 +15,17 @@ const (
 	toBe   = '+'
 	notBe  = '-'
 )
+
+// signs has the signs by the numbers that a step has for them.
+const signs = string(noVote) + string(toBe) + string(notBe)
+
+// A Vote is what a node says in the blocks that it makes: how, a number less than Ways, and about which node. The zero Vote is none.
+type Vote struct {
+	How, About int
+}
+
+// Ways is how many ways to vote there are.
+const Ways = len(signs)
 
 // enough is how many makers must vote alike, so that no single one moves the members.
 const enough = 2
@@ -58,8 +70,39 @@ func Leader(nodes int, chain string, round int) (int, api.Errno) {
 	if round < 0 || round > api.MaxRound {
 		return 0, api.ErrStep
 	}
-	height := Blocks(chain) + 1
-	return nodeAt(members, (height+round)%members.Size()), api.OK
+	return LeaderOf(members, Blocks(chain)+1, round), api.OK
+}
+
+// LeaderOf tells which of the members of a height proposes in a round of it.
+func LeaderOf(members set.Set, height, round int) int {
+	return nodeAt(members, (height+round)%members.Size())
+}
+
+// Quorum is how many of so many members decide: any two that many have a good one in both, if no more than Faults are bad.
+func Quorum(members int) int {
+	return (2*members + 2) / 3
+}
+
+// Faults is how many of so many members may be bad.
+func Faults(members int) int {
+	return (members - 1) / 3
+}
+
+// Extends tells whether a chain is another one and one block more, that may be.
+func Extends(nodes int, chain, longer string) bool {
+	if len(longer) != len(chain)+api.Entry || !strings.HasPrefix(longer, chain) {
+		return false
+	}
+	_, e := Members(nodes, longer)
+	return e == api.OK
+}
+
+// Block is the entry of a block with this maker and its vote.
+func Block(maker int, vote Vote) string {
+	if vote.How == 0 {
+		vote.About = 0
+	}
+	return string([]byte{letter(maker), signs[vote.How], letter(vote.About)})
 }
 
 // Blocks tells how many blocks a chain has.
@@ -107,6 +150,11 @@ func read(entry string) (block, bool) {
 // digit is the number that a digit stands for; other bytes give what is no node.
 func digit(c byte) int {
 	return int(c) - '0'
+}
+
+// letter is the digit that stands for a node.
+func letter(node int) byte {
+	return byte(node) + '0'
 }
 
 // count lets the votes of an epoch's blocks change the members.

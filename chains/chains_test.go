@@ -184,3 +184,52 @@ func TestLeadersGoRound(t *testing.T) {
 		}
 	}
 }
+
+func TestQuorumAndFaults(t *testing.T) {
+	for _, c := range []struct{ members, quorum, faults int }{{4, 3, 1}, {5, 4, 1}, {6, 4, 1}, {7, 5, 2}} {
+		if q, f := Quorum(c.members), Faults(c.members); q != c.quorum || f != c.faults {
+			t.Errorf("P6: of %d members: %d, %d, want %d, %d", c.members, q, f, c.quorum, c.faults)
+		}
+	}
+}
+
+func TestExtends(t *testing.T) {
+	six := strings.Repeat("1.0", 6)
+	for _, c := range []struct {
+		chain, longer string
+		want          bool
+	}{
+		{"", "1.0", true},
+		{"", "3-6", true},
+		{"", "4.0", false}, // no member
+		{"", "1.1", false},
+		{"", "1x0", false},
+		{"", "", false},
+		{"", "1.01.0", false},
+		{"", "1.", false},
+		{"1.0", "1.02+5", true},
+		{"1.0", "2.02+5", false},
+		{"1.0", "2+5", false},
+		{"1.0", "1.0", false},
+		{"1+52+53.0", "1+52+53.05.0", true},
+		{"1+52+53.0", "1+52+53.04.0", false},
+		{six[:15], six, true},
+		{six, six + "1.0", false},
+	} {
+		if got := Extends(4, c.chain, c.longer); got != c.want {
+			t.Errorf("P6: Extends(%q, %q): %v", c.chain, c.longer, got)
+		}
+	}
+}
+
+func TestBlock(t *testing.T) {
+	for _, c := range []struct {
+		maker int
+		vote  Vote
+		want  string
+	}{{0, Vote{}, "0.0"}, {3, Vote{How: 0, About: 5}, "3.0"}, {6, Vote{How: 1, About: 5}, "6+5"}, {2, Vote{How: 2, About: 0}, "2-0"}} {
+		if got := Block(c.maker, c.vote); got != c.want {
+			t.Errorf("P6: Block(%d, %+v): %q, want %q", c.maker, c.vote, got, c.want)
+		}
+	}
+}

@@ -44,6 +44,11 @@ func (s Set) Without(node int) Set {
 	return s &^ (1 << node)
 }
 
+// Among is the set of those nodes that are in the other one, too.
+func (s Set) Among(other Set) Set {
+	return s & other
+}
+
 // Size tells how many nodes are in the set.
 func (s Set) Size() int {
 	return bits.OnesCount(uint(s & All))

@@ -82,3 +82,11 @@ func TestIsSet(t *testing.T) {
 		}
 	}
 }
+
+func TestAmong(t *testing.T) {
+	for _, c := range [][3]Set{{0, 0, 0}, {127, 5, 5}, {6, 3, 2}, {8, 7, 0}} {
+		if got := c[0].Among(c[1]); got != c[2] {
+			t.Errorf("%b among %b: %b", c[0], c[1], got)
+		}
+	}
+}

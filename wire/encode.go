@@ -19,7 +19,7 @@ func Encode(m api.Msg) (string, api.Errno) {
 	case api.Prepare, api.Commit:
 		text = append(text, m.Chain...)
 	case api.Change:
-		text = appendMove(text, moveOf(m))
+		text = appendMove(text, MoveOf(m))
 	case api.Final:
 		text = append(text, m.Chain...)
 		text = append(text, byte(m.By))

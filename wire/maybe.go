@@ -27,7 +27,7 @@ func bodyMayBe(m api.Msg) bool {
 	case api.Prepare, api.Commit:
 		return hasChain(m) && m.Prepared == api.NoRound && m.By == 0 && len(m.Moves) == 0
 	case api.Change:
-		return len(m.Moves) == 0 && moveMayBe(moveOf(m), m.Height, m.Round)
+		return len(m.Moves) == 0 && moveMayBe(MoveOf(m), m.Height, m.Round)
 	case api.Final:
 		return hasChain(m) && m.Prepared == api.NoRound && set.IsSet(m.By) && len(m.Moves) == 0
 	case api.Ask:
@@ -40,8 +40,8 @@ func hasChain(m api.Msg) bool {
 	return len(m.Chain) == m.Height*api.Entry
 }
 
-// moveOf is what a Change says, as a Move of its sender: both hold the same and are written alike.
-func moveOf(m api.Msg) api.Move {
+// MoveOf is what a Change says, as a Move of its sender: both hold the same and are written alike.
+func MoveOf(m api.Msg) api.Move {
 	return api.Move{Node: m.From, Prepared: m.Prepared, Chain: m.Chain, By: m.By}
 }
 
