@@ -47,7 +47,7 @@ func Members(nodes int, chain string) (set.Set, api.Errno) {
 	}
 	members := set.First(nodes)
 	var epoch []block
-	for height, entry := range entries(chain) {
+	for height, entry := range Entries(chain) {
 		b, ok := read(entry)
 		if !ok || !members.Has(b.maker) {
 			return 0, api.ErrChain
@@ -121,8 +121,8 @@ func nodeAt(nodes set.Set, place int) int {
 	return 0
 }
 
-// entries goes through the blocks of a chain, each with its height.
-func entries(chain string) iter.Seq2[int, string] {
+// Entries goes through the blocks of a chain, each with its height.
+func Entries(chain string) iter.Seq2[int, string] {
 	return func(yield func(int, string) bool) {
 		for at := range Blocks(chain) {
 			if !yield(at+1, chain[at*api.Entry:(at+1)*api.Entry]) {

@@ -45,3 +45,14 @@ func (r *Record) Believes(m api.Msg) bool {
 	_, said := r.said[text]
 	return e == api.OK && said
 }
+
+// AllSent tells whether it is believed of each of these nodes that it sent this message, whoever that is from.
+func AllSent(nodes set.Set, m api.Msg, believes func(api.Msg) bool) bool {
+	for node := range nodes.Nodes() {
+		m.From = node
+		if !believes(m) {
+			return false
+		}
+	}
+	return true
+}

@@ -84,3 +84,14 @@ func TestWhatCannotBeClaimedIsNotKept(t *testing.T) {
 		t.Errorf("%d on record", len(r.said))
 	}
 }
+
+func TestAllSent(t *testing.T) {
+	r := New(set.Set(0).With(3))
+	r.Note(packet(t, said(api.Commit, 0)), packet(t, said(api.Commit, 2)), packet(t, said(api.Prepare, 1)))
+	for nodes := range set.All + 1 {
+		want := nodes.Among(set.Set(1+4+8)) == nodes
+		if got := AllSent(nodes, said(api.Commit, 5), r.Believes); got != want {
+			t.Errorf("P8: AllSent(%b): %v", nodes, got)
+		}
+	}
+}

@@ -195,9 +195,16 @@ func (n *modelNode) leader() int {
 	return l
 }
 
-// quorum is 2 n divided by 3, rounded up.
-func (n *modelNode) quorum() int {
-	return map[int]int{4: 3, 5: 4, 6: 4, 7: 5}[len(n.members())]
+func (n *modelNode) quorum() int { return quorumOf(len(n.members())) }
+
+// quorumOf is 2 n divided by 3, rounded up.
+func quorumOf(n int) int {
+	return map[int]int{4: 3, 5: 4, 6: 4, 7: 5}[n]
+}
+
+// faultsOf is n - 1 divided by 3, rounded down.
+func faultsOf(n int) int {
+	return map[int]int{4: 1, 5: 1, 6: 1, 7: 2}[n]
 }
 
 func (n *modelNode) oneMore(chain string) bool {
@@ -379,7 +386,7 @@ func (n *modelNode) change(m api.Msg) {
 				tops = append(tops, top)
 			}
 		}
-		if len(tops) > map[int]int{4: 1, 5: 1, 6: 1, 7: 2}[len(n.members())] {
+		if len(tops) > faultsOf(len(n.members())) {
 			n.begin(slices.Min(tops))
 		}
 	}
@@ -447,4 +454,52 @@ func (w *model) view(i int) (api.View, api.Errno) {
 	}
 	n := w.nodes[i]
 	return api.View{Up: n.up, Sent: n.sent, Chain: n.chain, Round: n.round, Left: n.left, Accepted: n.accepted, Prepared: n.prepared, For: n.preparedFor, By: n.preparedBy}, api.OK
+}
+
+func (w *model) ledger(i int) (string, api.Errno) {
+	if i < 0 || i > 6 || w.nodes[i] == nil {
+		return "", api.ErrNode
+	}
+	n := w.nodes[i]
+	blocks := len(n.chain) / 3
+	text := []byte{byte(blocks)}
+	for at := range blocks {
+		text = append(text, n.chain[3*at], n.chain[3*at+1], n.chain[3*at+2], byte(n.sealRounds[at]), byte(n.sealSets[at]))
+	}
+	return string(text), api.OK
+}
+
+func (w *model) follow(ledger string) (string, api.Errno) {
+	if ledger == "" || ledger[0] > 6 || len(ledger) != 1+5*int(ledger[0]) {
+		return "", api.ErrForm
+	}
+	for at := 1; at < len(ledger); at += 5 {
+		if ledger[at+3] > 9 || ledger[at+4] > 127 {
+			return "", api.ErrForm
+		}
+	}
+	chain := ""
+	for at := 1; at < len(ledger); at += 5 {
+		members, _ := Members(w.first, chain)
+		chain += ledger[at : at+3]
+		if _, e := Members(w.first, chain); e != api.OK {
+			return "", api.ErrChain
+		}
+		if !w.sealed(members, chain, int(ledger[at+3]), int(ledger[at+4])) {
+			return "", api.ErrSeals
+		}
+	}
+	return chain, api.OK
+}
+
+func (w *model) sealed(members []int, chain string, round, seals int) bool {
+	for i := range 7 {
+		if seals>>i&1 == 0 {
+			continue
+		}
+		if !slices.Contains(members, i) || !w.believed(api.Msg{Kind: api.Commit, From: i, Height: len(chain) / 3, Round: round, Chain: chain, Prepared: -1}) {
+			return false
+		}
+	}
+	return bits.OnesCount(uint(seals)) >= quorumOf(len(members))
 }

@@ -6,12 +6,14 @@ import (
 	"moot/api"
 	"moot/chains"
 	"moot/claims"
+	"moot/ledgers"
 	"moot/node"
 	"moot/set"
 )
 
 // World is nodes, and packets on their way.
 type World struct {
+	first  int // how many nodes were members at first
 	bad    set.Set
 	nodes  [api.MaxNodes]*node.Node // none for a bad one, as that does nothing by itself
 	record *claims.Record
@@ -24,7 +26,7 @@ func New(c api.Config) (*World, api.Errno) {
 		return nil, api.ErrConfig
 	}
 	bad := set.Set(c.Bad)
-	w := &World{bad: bad, record: claims.New(bad)}
+	w := &World{first: c.Nodes, bad: bad, record: claims.New(bad)}
 	for number := range set.All.Nodes() {
 		if !bad.Has(number) {
 			w.nodes[number] = node.New(number, c.Nodes, w.record.Believes)
@@ -64,10 +66,10 @@ func (w *World) View(node int) (api.View, api.Errno) {
 
 // Ledger tells a node's chain with its seals, as bytes (P8).
 func (w *World) Ledger(node int) (string, api.Errno) {
-	if w == nil {
+	if w == nil || !w.isGood(node) {
 		return "", api.ErrNode
 	}
-	return "", api.OK
+	return w.nodes[node].Ledger(), api.OK
 }
 
 // Follow looks whether bytes are a chain with its seals (P8).
@@ -75,7 +77,7 @@ func (w *World) Follow(ledger string) (string, api.Errno) {
 	if w == nil {
 		return "", api.ErrNode
 	}
-	return "", api.OK
+	return ledgers.Follow(w.first, ledger, w.record.Believes)
 }
 
 func (w *World) canBe(s api.Step) bool {

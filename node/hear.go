@@ -3,6 +3,7 @@ package node
 import (
 	"moot/api"
 	"moot/chains"
+	"moot/claims"
 	"moot/set"
 	"moot/wire"
 )
@@ -139,14 +140,6 @@ func (n *Node) membersIn(by int) set.Set {
 
 // allSent tells whether these are a quorum, and each is believed to have said this of a round and chain of the node's height.
 func (n *Node) allSent(kind api.Kind, round int, chain string, by set.Set) bool {
-	if by.Size() < n.quorum() {
-		return false
-	}
-	for node := range by.Nodes() {
-		said := api.Msg{Kind: kind, From: node, Height: n.height(), Round: round, Chain: chain, Prepared: api.NoRound}
-		if !n.believes(said) {
-			return false
-		}
-	}
-	return true
+	said := api.Msg{Kind: kind, Height: n.height(), Round: round, Chain: chain, Prepared: api.NoRound}
+	return by.Size() >= n.quorum() && claims.AllSent(by, said, n.believes)
 }

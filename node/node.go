@@ -4,6 +4,7 @@ package node
 import (
 	"moot/api"
 	"moot/chains"
+	"moot/ledgers"
 	"moot/set"
 )
 
@@ -23,18 +24,12 @@ type Node struct {
 // kept is what a node keeps when it crashes.
 type kept struct {
 	chain          string
-	seals          []seal // of each block of the chain
+	seals          []ledgers.Seal // of each block of the chain
 	round          int
 	accepted       string
 	proposed, sent bool
 	prepared       certificate
 	vote           chains.Vote
-}
-
-// A seal tells in which round a block was decided, and by whose Commits.
-type seal struct {
-	round int
-	by    set.Set
 }
 
 // A certificate tells the last round in which a node was prepared, for which chain, and by whose Prepares.
@@ -86,6 +81,11 @@ func (n *Node) View() api.View {
 		Chain: n.chain, Round: n.round, Left: n.left, Accepted: n.accepted,
 		Prepared: n.prepared.round, For: n.prepared.chain, By: int(n.prepared.by),
 	}
+}
+
+// Ledger is the node's chain with its seals, as bytes.
+func (n *Node) Ledger() string {
+	return ledgers.Write(n.chain, n.seals...)
 }
 
 // TakeOutbox takes what the node has sent since this was asked last, in the order of sending.

@@ -375,3 +375,28 @@ func TestBehindTheLastBlockItOnlyAnswers(t *testing.T) {
 	b.Restart()
 	b.is(through)
 }
+
+func TestLedger(t *testing.T) {
+	b := begun(t, 5, 4, gullible)
+	ledger := func(want string) {
+		t.Helper()
+		if got := b.Ledger(); got != want {
+			t.Errorf("P8: %q, want %q", got, want)
+		}
+	}
+	ledger("\x00")
+	b.decide(9, "1.0")
+	ledger("\x011.0\x09\x07")
+	b.hear(final(6, 3, "1.02+5", 127), commit(3, 9, "1.0"))
+	ledger("\x021.0\x09\x072+5\x03\x0f")
+	b.Crash()
+	ledger("\x021.0\x09\x072+5\x03\x0f")
+	b.Restart()
+	chain := "1.02+51.01.01.0"
+	for height := 3; height <= 5; height++ {
+		b.decide(0, chain[:3*height])
+	}
+	ledger("\x051.0\x09\x072+5\x03\x0f" + strings.Repeat("1.0\x00\x07", 3))
+	b.decide(1, chain+"0-1")
+	ledger("\x061.0\x09\x072+5\x03\x0f" + strings.Repeat("1.0\x00\x07", 3) + "0-1\x01\x07")
+}

@@ -5,6 +5,7 @@ import (
 
 	"moot/api"
 	"moot/chains"
+	"moot/ledgers"
 	"moot/set"
 )
 
@@ -78,7 +79,7 @@ func (n *Node) lookWhetherPrepared() {
 // end ends the height with a chain, decided in a round by the Commits of these.
 func (n *Node) end(chain string, round int, by set.Set) {
 	n.chain = chain
-	n.seals = append(n.seals, seal{round, by})
+	n.seals = append(n.seals, ledgers.Seal{Round: round, By: by})
 	n.members, _ = chains.Members(n.first, chain)
 	n.prepared = never()
 	n.heard = newHeard()

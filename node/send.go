@@ -24,8 +24,8 @@ func (n *Node) change() api.Msg {
 func (n *Node) final(height int) api.Msg {
 	seal := n.seals[height-1]
 	return api.Msg{
-		Kind: api.Final, From: n.self, Height: height, Round: seal.round,
-		Chain: n.chain[:height*api.Entry], Prepared: api.NoRound, By: int(seal.by),
+		Kind: api.Final, From: n.self, Height: height, Round: seal.Round,
+		Chain: n.chain[:height*api.Entry], Prepared: api.NoRound, By: int(seal.By),
 	}
 }
 
